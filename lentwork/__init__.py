@@ -1,0 +1,1 @@
+"""Lentwork: pieces of work lent with marks of how far."""
