@@ -4,7 +4,9 @@ import time
 from decimal import Decimal
 from fractions import Fraction
 
-from lentwork.errors import LentError
+from lentwork.errors import (
+    BadCut, BadJoin, BadMoment, BadTelling, LentError, Lost, NoLending, NoPiece, Otherwise,
+)
 
 BIG = 10 ** 17  # eighteen figures
 
@@ -133,3 +135,169 @@ def assert_tuples_of_wholes(case, thing):
         case.assertIs(type(thing), tuple)
         for part in thing:
             assert_tuples_of_wholes(case, part)
+
+
+def no_numbers():
+    """Things that are no tuple of whole numbers, anew each time."""
+    tuples = [(thing,) for thing in no_wholes()]
+    tuples += [(1, thing) for thing in no_wholes()] + [(1, thing, 2) for thing in no_wholes()]
+    others = [thing for thing in no_wholes() if not isinstance(thing, tuple)]
+    return tuples + others + [
+        0, 1, 5, [1, 2], [], {1: 2}, {1, 2}, range(3), range(0), "12", "", b"12", iter((1, 2)), ((1,),), ((),),
+        (1, (2,)), (number for number in (1, 2)), zip((1,), (2,)),
+    ]
+
+
+def no_texts():
+    """Things that are no text, anew each time."""
+    return [thing for thing in no_wholes() if not isinstance(thing, str)] + [0, 1, -1, BIG, ["a"], ("a",), b"ann"]
+
+
+def no_workers():
+    """Things that are no worker, anew each time."""
+    return no_texts() + [
+        "", " ", "abcdefghi", "abcdefghijklmnop", "A", "Ann", "anN", "ANN", "a1", "1", "0", "a b", " a", "a ", "a\n",
+        "\n", "a-b", "a_b", "_", "-", "`", "{", "a{", "`a", "@", "[", "a.", "caf\u00e9", "\u00e9", "\u00df", "\u03b1",
+    ]
+
+
+def seen(book):
+    """All that a book tells."""
+    return (book.pieces(), book.moment_now(), book.bounds(), book.all_results(), book.left_work())
+
+
+def done(book, deed):
+    """A deed is a tuple of a name and what is handed in; told is (its refusal or None, what it tells)."""
+    try:
+        return (None, getattr(book, deed[0])(*deed[1:]))
+    except LentError as refusal:
+        return (type(refusal), None)
+
+
+def runs_of(laid):
+    """The results of a dict, told place by place."""
+    return [(low, tuple(laid[place] for place in range(low, high))) for low, high in short_of(set(laid))]
+
+
+class PlainBook:
+    """The book of points 7 to 14, kept place by place: marks are counted, not kept. do() tells as done() does."""
+
+    def __init__(self, work, span, every, least):
+        self.handed = (work, span, every, least)
+        self.owner = {place: seat for seat, (low, high) in enumerate(work) for place in range(low, high)}
+        self.result = {}
+        self.lendings = {}
+        self.pieces_made = len(work)
+        self.tokens = 0
+        self.moment = 0
+
+    def piece(self, number):
+        row = sorted(place for place in self.owner if self.owner[place] == number)
+        mark = row[0] + sum(place in self.result for place in row)
+        return (number, row[0], row[-1] + 1, mark, self.lendings.get(number))
+
+    def pieces(self):
+        return sorted((self.piece(number) for number in set(self.owner.values())), key=lambda piece: piece[1])
+
+    def seen(self):
+        left = short_of(set(self.owner) - set(self.result))
+        return (self.pieces(), self.moment, self.handed, runs_of(self.result), left)
+
+    def holder(self, token):
+        return next((number for number in self.lendings if self.lendings[number][0] == token), None)
+
+    def widest(self, wanted):
+        found = [(mark - high, low, number) for number, low, high, mark, lending in self.pieces()
+                 if mark < high and wanted(lending)]
+        return min(found)[2] if found else None
+
+    def choice(self, moment):
+        free = self.widest(lambda lending: lending is None)
+        late = self.widest(lambda lending: lending is not None and lending[2] < moment)
+        lent = self.widest(lambda lending: lending is not None)
+        if free is not None or late is not None:
+            return ("piece", late if free is None else free)
+        if lent is None:
+            return None
+        number, low, high, mark, lending = self.piece(lent)
+        return ("cut", number, high - (high - mark) // 2) if high - mark >= 2 * self.handed[3] else None
+
+    def refusal(self, name, *handed):
+        if name in ("cut", "join"):
+            return self.refused_shape(name, *handed)
+        if handed[-1] < self.moment:
+            return BadMoment
+        if name in ("lend", "choice"):
+            return None
+        token = handed[0]
+        if not 0 <= token < self.tokens:
+            return NoLending
+        if self.holder(token) is None:
+            return Lost
+        return self.refused_telling(*handed[:3]) if name == "tell" else None
+
+    def refused_telling(self, token, place, numbers):
+        number, low, high, mark, lending = self.piece(self.holder(token))
+        if not low <= place <= mark or place + len(numbers) - mark > self.handed[2]:
+            return BadTelling
+        told = dict(enumerate(numbers, start=place))
+        return Otherwise if any(told.get(at, self.result[at]) != self.result[at] for at in range(low, mark)) else None
+
+    def refused_shape(self, name, number, place=None):
+        if number not in self.owner.values():
+            return NoPiece
+        number, low, high, mark, lending = self.piece(number)
+        if name == "cut":
+            first = mark + (self.handed[2] if lending else 1)
+            return None if first <= place < high else BadCut
+        beside = self.owner.get(high)
+        return None if beside is not None and self.is_new(beside, high) else BadJoin
+
+    def is_new(self, number, at):
+        return number not in self.lendings and self.piece(number)[1] == at and at not in self.result
+
+    def do(self, deed):
+        kind = self.refusal(*deed)
+        return (kind, None) if kind else (None, getattr(self, "do_" + deed[0])(*deed[1:]))
+
+    def do_choice(self, moment):
+        return self.choice(moment)
+
+    def do_lend(self, worker, moment):
+        chosen = self.choice(moment)
+        if chosen is None:
+            return None
+        number = chosen[1]
+        if chosen[0] == "cut":
+            self.do_cut(number, chosen[2])
+            number = self.pieces_made - 1
+        self.moment = moment
+        self.lendings[number] = (self.tokens, worker, moment + self.handed[1])
+        self.tokens += 1
+        return (self.tokens - 1, number, self.piece(number)[3], self.piece(number)[2], moment + self.handed[1])
+
+    def do_tell(self, token, place, numbers, moment):
+        number = self.holder(token)
+        for at, told in enumerate(numbers, start=place):
+            if self.owner.get(at) == number:
+                self.result[at] = told
+        self.moment = moment
+        self.lendings[number] = (token, self.lendings[number][1], moment + self.handed[1])
+        number, low, high, mark, lending = self.piece(number)
+        if mark == high:
+            self.lendings.pop(number)
+        return (mark, high, None if mark == high else lending[2])
+
+    def do_give_back(self, token, moment):
+        self.lendings.pop(self.holder(token))
+        self.moment = moment
+
+    def do_cut(self, number, place):
+        for at in range(place, self.piece(number)[2]):
+            self.owner[at] = self.pieces_made
+        self.pieces_made += 1
+
+    def do_join(self, number):
+        high = self.piece(number)[2]
+        for at in range(high, self.piece(self.owner[high])[2]):
+            self.owner[at] = number

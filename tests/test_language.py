@@ -23,6 +23,14 @@ WORDS_OUT = re.compile(
     r"\b(type|typing|typing_extensions|enum|Enum|IntEnum|StrEnum|Flag|IntFlag|Generic|Protocol|ABC|ABCMeta|namedtuple"
     r"|NamedTuple|TypedDict|TYPE_CHECKING|abstractmethod)\b|dataclass|overload|contextmanager")
 
+METHODS_OF_VALUES = set(
+    "append clear copy count endswith extend find get index insert isalnum isalpha isdigit islower isspace isupper "
+    "items join keys ljust lower lstrip partition pop remove replace reverse rfind rjust rpartition rsplit rstrip setdefault "
+    "split splitlines startswith strip update upper values zfill bit_length".split())
+
+KEYWORDS = {"sorted": {"key", "reverse"}, "min": {"key", "default"}, "max": {"key", "default"}, "sum": {"start"},
+            "enumerate": {"start"}, "zip": {"strict"}}
+
 
 def files():
     return sorted(path for path in PACKAGE.rglob("*") if path.is_file() and "__pycache__" not in path.parts)
@@ -34,6 +42,19 @@ def trees():
 
 def nodes(kind):
     return [(name, node) for name, tree in trees() for node in ast.walk(tree) if isinstance(node, kind)]
+
+
+def own_methods():
+    return {node.name for name, parent in nodes(ast.ClassDef) for node in parent.body
+            if isinstance(node, ast.FunctionDef)}
+
+
+def names_given():
+    """Every name that a file binds, with the file."""
+    given = [(name, node.name) for name, node in nodes((ast.FunctionDef, ast.ClassDef))]
+    given += [(name, node.arg) for name, node in nodes(ast.arg)]
+    given += [(name, node.id) for name, node in nodes(ast.Name) if isinstance(node.ctx, ast.Store)]
+    return given + [(name, node.attr) for name, node in nodes(ast.Attribute) if isinstance(node.ctx, ast.Store)]
 
 
 class Language(unittest.TestCase):
@@ -85,6 +106,60 @@ class Language(unittest.TestCase):
             self.assertIsNotNone(node.type, name)
             taken = [part.id for part in ast.walk(node.type) if isinstance(part, ast.Name)]
             self.assertFalse({"Exception", "TypeError", "BaseException"} & set(taken), name)
+
+    def test_plain_names(self):
+        for name, given in names_given():
+            if given != "__init__":
+                self.assertRegex(given, r"^[A-Za-z][A-Za-z0-9_]*$", name)
+
+    def test_no_name_of_pythons_own_is_given_anew(self):
+        for name, node in nodes((ast.arg, ast.Name)):
+            if isinstance(node, ast.arg) or isinstance(node.ctx, ast.Store):
+                self.assertFalse(hasattr(builtins, node.arg if isinstance(node, ast.arg) else node.id), name)
+
+    def test_no_local_is_called_like_an_import(self):
+        imported = {(name, alias.name) for name, node in nodes(ast.ImportFrom) for alias in node.names}
+        classes = {(name, node.name) for name, node in nodes(ast.ClassDef)}
+        local = {(name, node.arg) for name, node in nodes(ast.arg)}
+        local |= {(name, node.id) for name, node in nodes(ast.Name) if isinstance(node.ctx, ast.Store)}
+        self.assertEqual((imported | classes) & local, set())
+
+    def test_imports_come_from_the_file_that_defines_the_name(self):
+        defined = {(name, node.name) for name, tree in trees() for node in tree.body
+                   if isinstance(node, (ast.FunctionDef, ast.ClassDef))}
+        for name, node in nodes(ast.ImportFrom):
+            for alias in node.names:
+                self.assertIn((node.module.partition(".")[2] + ".py", alias.name), defined, name)
+                self.assertIsNone(alias.asname, name)
+
+    def test_one_target_in_an_assignment(self):
+        for name, node in nodes(ast.Assign):
+            self.assertEqual(len(node.targets), 1, name)
+            self.assertIsInstance(node.targets[0], (ast.Name, ast.Attribute, ast.Subscript), name)
+
+    def test_no_name_is_a_method_and_a_value(self):
+        values = {node.attr for name, node in nodes(ast.Attribute) if isinstance(node.ctx, ast.Store)}
+        self.assertEqual(values & own_methods(), set())
+        self.assertEqual(values & METHODS_OF_VALUES, set())
+
+    def test_methods_that_are_called(self):
+        for name, node in nodes(ast.Call):
+            if isinstance(node.func, ast.Attribute):
+                self.assertIn(node.func.attr, METHODS_OF_VALUES | own_methods(), name)
+                self.assertEqual(node.keywords, [], name)
+            elif node.keywords:
+                self.assertLessEqual({word.arg for word in node.keywords}, KEYWORDS.get(node.func.id, set()), name)
+
+    def test_is_stands_beside_none_true_and_false(self):
+        for name, node in nodes(ast.Compare):
+            for sign, other in zip(node.ops, node.comparators):
+                if isinstance(sign, (ast.Is, ast.IsNot)):
+                    self.assertIn(ast.unparse(other), ("None", "True", "False"), name)
+
+    def test_comprehensions_have_one_for_and_one_if_at_most(self):
+        for name, node in nodes(ast.ListComp):
+            self.assertEqual(len(node.generators), 1, name)
+            self.assertLessEqual(len(node.generators[0].ifs), 1, name)
 
 
 if __name__ == "__main__":

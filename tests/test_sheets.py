@@ -4,29 +4,14 @@ import unittest
 from lentwork.errors import BadPlace, BadWork, Twice
 from lentwork.sheets import Sheet
 from tests.support import (
-    BIG, Thorny, all_works, assert_tuples_of_wholes, in_short_time, no_wholes, no_works, places_of, refused, short_of,
+    BIG, Thorny, all_works, assert_tuples_of_wholes, in_short_time, no_numbers, no_wholes, no_works, places_of,
+    refused, runs_of, short_of,
 )
-
-
-def no_numbers():
-    """Things that are no tuple of whole numbers, anew each time."""
-    tuples = [(thing,) for thing in no_wholes()]
-    tuples += [(1, thing) for thing in no_wholes()] + [(1, thing, 2) for thing in no_wholes()]
-    others = [thing for thing in no_wholes() if not isinstance(thing, tuple)]
-    return tuples + others + [
-        0, 1, 5, [1, 2], [], {1: 2}, {1, 2}, range(3), range(0), "12", "", b"12", iter((1, 2)), ((1,),), ((),),
-        (1, (2,)), (number for number in (1, 2)), zip((1,), (2,)),
-    ]
 
 
 def seen(sheet, places):
     """All that a sheet tells."""
     return (sheet.all_results(), sheet.left_work(), [sheet.result_at(place) for place in places])
-
-
-def runs_of(laid):
-    """The results of a dict, told place by place."""
-    return [(low, tuple(laid[place] for place in range(low, high))) for low, high in short_of(set(laid))]
 
 
 class NewSheets(unittest.TestCase):
