@@ -1,5 +1,6 @@
 """What several tests need: things that are of no use, small works, and a plain second way to count places."""
 
+import random
 import time
 from decimal import Decimal
 from fractions import Fraction
@@ -174,6 +175,20 @@ def done(book, deed):
         return (type(refusal), None)
 
 
+def told_by(house):
+    """All that a house tells, and a book with it."""
+    return (house.pieces(), house.moment_now(), house.all_results(), house.left_work())
+
+
+def line_of(deed, told):
+    """The line of a deed that was done and told this; None where nothing was lent."""
+    if deed[0] == "lend":
+        return None if told is None else ("lent", deed[2], deed[1], told[0], told[1])
+    if deed[0] == "tell":
+        return ("told", deed[4], deed[1], deed[2], deed[3])
+    return ("back", deed[2], deed[1]) if deed[0] == "give_back" else deed
+
+
 def runs_of(laid):
     """The results of a dict, told place by place."""
     return [(low, tuple(laid[place] for place in range(low, high))) for low, high in short_of(set(laid))]
@@ -301,3 +316,56 @@ class PlainBook:
         high = self.piece(number)[2]
         for at in range(high, self.piece(self.owner[high])[2]):
             self.owner[at] = number
+
+
+BOOKS = (
+    (((0, 30),), 4, 1, 1), (((0, 40),), 3, 3, 5), (((-5, 5), (5, 12), (20, 26)), 2, 2, 2),
+    (((0, 3), (3, 6), (6, 9), (9, 12), (14, 15)), 5, 4, 4), (((-20, 20),), 1, 7, 7), (((0, 9),), 6, 1, 30),
+)
+
+
+def numbers_for(plain, token, place, count):
+    """What is known already, told again, and then numbers that no other lending tells."""
+    return tuple(plain.result.get(at, 100 * token + at) for at in range(place, place + count))
+
+
+def next_deed(dice, plain):
+    """Most are right ones; those of lost lendings, gone pieces, fallen moments and wrong numbers come too."""
+    now = plain.moment + dice.choice((0, 0, 0, 0, 1, 1, 2, 9, -1))
+    name = dice.choice(("lend", "lend", "tell", "tell", "tell", "tell", "tell", "give_back", "cut", "join"))
+    if name == "lend":
+        return (name, dice.choice("abc"), now)
+    if name in ("cut", "join"):
+        number = dice.randrange(plain.pieces_made + 1)
+        place = dice.choice(sorted(plain.owner)) + dice.choice((0, 1))
+        return (name, number, place) if name == "cut" else (name, number)
+    held = [lending[0] for lending in plain.lendings.values()]
+    token = dice.choice(held) if held and dice.randrange(5) else dice.randrange(-1, plain.tokens + 1)
+    return (name, token, now) if name == "give_back" else next_telling(dice, plain, token, now)
+
+
+def next_telling(dice, plain, token, now):
+    holder = plain.holder(token)
+    low, mark = plain.piece(holder)[1:4:2] if holder is not None else (0, 0)
+    place = max(low, mark - dice.randrange(4)) if dice.randrange(9) else mark + dice.choice((-9, -1, 1))
+    count = max(0, mark - place + dice.randrange(-1, plain.handed[2] + 1))
+    numbers = numbers_for(plain, token, place, count + (not dice.randrange(9)))
+    if numbers and not dice.randrange(12):
+        numbers = (-1,) + numbers[1:]
+    return ("tell", token, place, numbers, now)
+
+
+class Asked:
+    """A doing that keeps the places it was asked for, and tells another number each time."""
+
+    def __init__(self):
+        self.places = []
+
+    def __call__(self, place):
+        self.places.append(place)
+        return 1000 * place + len(self.places)
+
+
+def rows(count):
+    """For each row the bounds of its book, and dice that fall alike each time."""
+    return [(BOOKS[seed % len(BOOKS)], random.Random(seed)) for seed in range(count)]

@@ -107,6 +107,10 @@ class Language(unittest.TestCase):
             taken = [part.id for part in ast.walk(node.type) if isinstance(part, ast.Name)]
             self.assertFalse({"Exception", "TypeError", "BaseException"} & set(taken), name)
 
+    def test_errors_are_made_on_the_spot(self):
+        for name, node in nodes(ast.Raise):
+            self.assertIsInstance(node.exc, ast.Call, name)
+
     def test_plain_names(self):
         for name, given in names_given():
             if given != "__init__":

@@ -1,17 +1,11 @@
 """Rows of deeds, done on a book and beside it place by place; what the promise says of every row."""
 
 import copy
-import random
 import unittest
 
 from lentwork.books import Book
 from lentwork.errors import BadCut, BadJoin, BadMoment, BadTelling, Lost, NoLending, NoPiece, Otherwise
-from tests.support import PlainBook, done, places_of, seen
-
-
-def numbers_for(plain, token, place, count):
-    """What is known already, told again, and then numbers that no other lending tells."""
-    return tuple(plain.result.get(at, 100 * token + at) for at in range(place, place + count))
+from tests.support import PlainBook, done, next_deed, numbers_for, places_of, rows, seen
 
 
 def small_deeds(plain):
@@ -84,11 +78,6 @@ class EverySmallRow(unittest.TestCase):
         self.walk(((-1, 1), (2, 4)), 1, 2, 2, 3)
 
 
-BOOKS = (
-    (((0, 30),), 4, 1, 1), (((0, 40),), 3, 3, 5), (((-5, 5), (5, 12), (20, 26)), 2, 2, 2),
-    (((0, 3), (3, 6), (6, 9), (9, 12), (14, 15)), 5, 4, 4), (((-20, 20),), 1, 7, 7), (((0, 9),), 6, 1, 30),
-)
-
 # The rows are worth something only where each deed and each of its refusals comes up in them.
 ALL_MET = {
     ("lend", None), ("lend", BadMoment), ("tell", None), ("tell", BadMoment), ("tell", NoLending), ("tell", Lost),
@@ -96,37 +85,6 @@ ALL_MET = {
     ("give_back", NoLending), ("give_back", Lost), ("cut", None), ("cut", NoPiece), ("cut", BadCut), ("join", None),
     ("join", NoPiece), ("join", BadJoin),
 }
-
-
-def next_deed(dice, plain):
-    """Most are right ones; those of lost lendings, gone pieces, fallen moments and wrong numbers come too."""
-    now = plain.moment + dice.choice((0, 0, 0, 0, 1, 1, 2, 9, -1))
-    name = dice.choice(("lend", "lend", "tell", "tell", "tell", "tell", "tell", "give_back", "cut", "join"))
-    if name == "lend":
-        return (name, dice.choice("abc"), now)
-    if name in ("cut", "join"):
-        number = dice.randrange(plain.pieces_made + 1)
-        place = dice.choice(sorted(plain.owner)) + dice.choice((0, 1))
-        return (name, number, place) if name == "cut" else (name, number)
-    held = [lending[0] for lending in plain.lendings.values()]
-    token = dice.choice(held) if held and dice.randrange(5) else dice.randrange(-1, plain.tokens + 1)
-    return (name, token, now) if name == "give_back" else next_telling(dice, plain, token, now)
-
-
-def next_telling(dice, plain, token, now):
-    holder = plain.holder(token)
-    low, mark = plain.piece(holder)[1:4:2] if holder is not None else (0, 0)
-    place = max(low, mark - dice.randrange(4)) if dice.randrange(9) else mark + dice.choice((-9, -1, 1))
-    count = max(0, mark - place + dice.randrange(-1, plain.handed[2] + 1))
-    numbers = numbers_for(plain, token, place, count + (not dice.randrange(9)))
-    if numbers and not dice.randrange(12):
-        numbers = (-1,) + numbers[1:]
-    return ("tell", token, place, numbers, now)
-
-
-def rows(count):
-    """For each row the bounds of its book, and dice that fall alike each time."""
-    return [(BOOKS[seed % len(BOOKS)], random.Random(seed)) for seed in range(count)]
 
 
 class LongRows(unittest.TestCase):
