@@ -47,10 +47,6 @@ class Runner:
         self.mark = mark
         self.end = end
 
-    def drop(self):
-        self.token = None
-        self.untold = ()
-
 
 class Course:
     def __init__(self, book, doing, left):
@@ -91,7 +87,7 @@ class Course:
         try:
             self.tell_numbers(runner, runner.untold, tick)
         except Lost:
-            runner.drop()
+            runner.token = None
         runner.untold = ()
 
     def ask_lending(self, runner, tick):

@@ -49,6 +49,10 @@ def own_methods():
             if isinstance(node, ast.FunctionDef)}
 
 
+def own_values():
+    return {node.attr for name, node in nodes(ast.Attribute) if isinstance(node.ctx, ast.Store)}
+
+
 def names_given():
     """Every name that a file binds, with the file."""
     given = [(name, node.name) for name, node in nodes((ast.FunctionDef, ast.ClassDef))]
@@ -142,9 +146,12 @@ class Language(unittest.TestCase):
             self.assertIsInstance(node.targets[0], (ast.Name, ast.Attribute, ast.Subscript), name)
 
     def test_no_name_is_a_method_and_a_value(self):
-        values = {node.attr for name, node in nodes(ast.Attribute) if isinstance(node.ctx, ast.Store)}
-        self.assertEqual(values & own_methods(), set())
-        self.assertEqual(values & METHODS_OF_VALUES, set())
+        self.assertEqual(own_values() & own_methods(), set())
+
+    def test_methods_and_values_have_free_names(self):
+        taken = {name for kind in (str, int, list, tuple, dict, set, bytes, ValueError) for name in dir(kind)}
+        self.assertEqual(own_values() & taken, set())
+        self.assertLessEqual(own_methods() & taken, METHODS_OF_VALUES | {"add", "discard", "__init__"})
 
     def test_methods_that_are_called(self):
         for name, node in nodes(ast.Call):
